@@ -1,0 +1,1 @@
+"""Codemill: the back end of a compiler, for codes of a stack machine."""
