@@ -33,6 +33,8 @@ BANNED_NAMES = frozenset(
     "builtins compile copyright credits delattr dir eval exec exit gc getattr globals hasattr help id importlib "
     "license locals methodcaller os quit setattr super type vars sys chr frozenset bytearray memoryview".split()
 )
+CHANGING = ("append", "clear", "extend", "insert", "pop", "remove", "reverse", "setdefault", "update", "sort")
+WALKING = ("list", "tuple", "dict", "sorted", "sum", "any", "all", "enumerate", "zip", "min", "max")
 DUNDER_METHODS = ("__init__", "__eq__", "__repr__", "__str__", "__len__")
 TOP_NODES = (ast.Import, ast.ImportFrom, ast.FunctionDef, ast.ClassDef, ast.Assign, ast.AnnAssign)
 
@@ -79,6 +81,16 @@ def local_names(tree):
     return names
 
 
+def called(node):
+    """The name that the node calls, None if it calls none by a plain name."""
+    return node.func.id if isinstance(node, ast.Call) and isinstance(node.func, ast.Name) else None
+
+
+def called_method(node):
+    """The method that the node calls, None if it calls none."""
+    return node.func.attr if isinstance(node, ast.Call) and isinstance(node.func, ast.Attribute) else None
+
+
 class LanguageTest(unittest.TestCase):
     def setUp(self):
         self.files = sorted(path for path in PACKAGE.rglob("*") if "__pycache__" not in path.parts and path.is_file())
@@ -90,6 +102,12 @@ class LanguageTest(unittest.TestCase):
             for node in ast.walk(tree):
                 if isinstance(node, sorts):
                     yield f"{name}:{node.lineno}", node
+
+    def nodes_below(self):
+        for name, tree in self.trees.items():
+            for above in ast.walk(tree):
+                for node in ast.iter_child_nodes(above):
+                    yield f"{name}:{getattr(node, 'lineno', '')}", node, above
 
     def test_files(self):
         self.assertIn("__init__.py", self.texts)
@@ -188,6 +206,58 @@ class LanguageTest(unittest.TestCase):
         for where, node in self.nodes(ast.Call):
             if isinstance(node.func, ast.Attribute):
                 self.assertIn(node.func.attr, set(own) | METHODS, f"L25 {where}")
+
+    def test_no_name_is_a_method_and_a_value(self):
+        methods, values = set(), set()
+        for where, node in self.nodes(ast.ClassDef):
+            methods.update(part.name for part in node.body if isinstance(part, ast.FunctionDef))
+        for where, node in self.nodes(ast.Attribute):
+            if isinstance(node.ctx, ast.Store):
+                values.add(node.attr)
+        self.assertEqual(methods & values, set(), "L18")
+        for where, node in self.nodes(ast.Attribute):
+            self.assertIn(node.attr, methods | values | METHODS, f"L18 {where}")
+
+    def test_methods_with_two_underscores(self):
+        for where, node in self.nodes(ast.FunctionDef):
+            returns = [part for part in ast.walk(node) if isinstance(part, ast.Return)]
+            if node.name == "__init__":
+                self.assertEqual(returns, [], f"L28 {where}")
+            if node.name == "__len__":
+                self.assertIsInstance(node.body[-1], ast.Return, f"L28 {where}")
+                for part in returns:
+                    self.assertEqual(called(part.value), "len", f"L28 {where}")
+
+    def test_walked_at_once(self):
+        for where, node, above in self.nodes_below():
+            if called(node) in ("zip", "enumerate", "reversed", "range") or called_method(node) in ("items", "keys", "values"):
+                self.assertTrue(
+                    isinstance(above, (ast.For, ast.comprehension)) or called(above) in WALKING
+                    or (isinstance(above, ast.Compare) and called(node) == "range"), f"L23 {where}",
+                )
+
+    def test_sets(self):
+        for where, node, above in self.nodes_below():
+            if isinstance(node, (ast.SetComp, ast.Set)) or called(node) == "set":
+                self.assertTrue(
+                    called(above) in ("sorted", "len") or isinstance(above, (ast.Compare, ast.Assign)), f"L24 {where}",
+                )
+
+    def test_what_a_loop_walks_is_not_changed_in_it(self):
+        for where, node in self.nodes(ast.For):
+            walked = {part.id for part in ast.walk(node.iter) if isinstance(part, ast.Name)}
+            for part in (inner for row in node.body for inner in ast.walk(row)):
+                if called_method(part) in CHANGING and isinstance(part.func.value, ast.Name):
+                    self.assertNotIn(part.func.value.id, walked, f"L23 {where}")
+
+    def test_tops_are_only_read(self):
+        for name, tree in self.trees.items():
+            tops = {bound for node in tree.body if isinstance(node, ast.Assign) for bound in bound_names(node)}
+            for node in ast.walk(tree):
+                if called_method(node) in CHANGING and isinstance(node.func.value, ast.Name):
+                    self.assertNotIn(node.func.value.id, tops, f"L15 {name}:{node.lineno}")
+                if isinstance(node, ast.Subscript) and isinstance(node.ctx, ast.Store) and isinstance(node.value, ast.Name):
+                    self.assertNotIn(node.value.id, tops, f"L15 {name}:{node.lineno}")
 
     def test_is(self):
         for where, node in self.nodes(ast.Compare):
