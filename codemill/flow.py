@@ -1,9 +1,7 @@
 """Flow: which places and blocks come behind which, and what every walk must pass."""
 
 from codemill.codes import label_places
-from codemill.sound import next_states, states
-
-ENDING_A_BLOCK = ("jump", "iftrue", "iffalse", "ortrue", "orfalse", "return", "raise")
+from codemill.sound import JUMPING, next_states, states
 
 
 def follows(code):
@@ -19,7 +17,10 @@ def follows(code):
 
 def begins_block(code, place):
     """Whether a block begins at the place."""
-    return place == 0 or code[place][0] == "label" or code[place - 1][0] in ENDING_A_BLOCK
+    if place == 0 or code[place][0] == "label":
+        return True
+    ahead = code[place - 1][0]
+    return ahead in JUMPING or ahead in ("return", "raise")
 
 
 def parts(code):

@@ -5,6 +5,8 @@ import copy
 import random
 
 from codemill.errors import BadCode, Unsound
+from codemill.machine import run
+from codemill.sound import why
 
 NAME_OPS = ("load", "quick", "store", "clear")
 JUMP_OPS = ("jump", "iftrue", "iffalse", "ortrue", "orfalse", "try")
@@ -149,6 +151,12 @@ class Maker:
         self.depth -= 1
         self.some(floor)
         self.level(depth)
+        if self.chance.random() < 0.3:
+            self.push()
+            self.put(self.chance.choice(("iftrue", "iffalse")), mark)
+            self.depth -= 1
+            self.some(floor)
+            self.level(depth)
         self.put("label", mark)
 
     def round(self, floor):
@@ -156,6 +164,10 @@ class Maker:
         again, depth, name = self.marks.pop(), self.depth, self.name()
         self.put("push", self.chance.randint(1, 4))
         self.put("store", name)
+        if self.chance.random() < 0.3:
+            self.push()
+            self.put(self.chance.choice(("iftrue", "iffalse")), again)
+            self.depth -= 1
         self.put("label", again)
         self.some(floor)
         self.level(depth)
@@ -260,3 +272,50 @@ def names_by_chance(seed):
     chance = random.Random(seed)
     values = (None, True, False, 0, 1, 5, -2, 10 ** 18, -10 ** 18, "Kind")
     return {name: chance.choice(values) for name in ("a", "b", "cd") if chance.random() < 0.5}
+
+
+def assert_tells_alike(case, code, better, names, steps=400):
+    """Check that the better code tells what the code tells, and ends as it does, in no more steps."""
+    end, told, many = run(code, names, steps)
+    found = run(better, names, steps)
+    if end == ("on",):
+        # The better one may be further by now; what was told so far must have been told by it.
+        case.assertEqual(kinds_of(found[1][:len(told)]), kinds_of(told), (code, better, names))
+        if found[0] != ("on",):
+            case.assertEqual(kinds_of(run(code, names, 100000)[:2]), kinds_of(found[:2]), (code, better, names))
+    else:
+        case.assertEqual(kinds_of(found[:2]), kinds_of((end, told)), (code, better, names))
+        case.assertLessEqual(found[2], many, (code, better, names))
+
+
+def assert_betters(case, better, is_better, code, is_left):
+    """Check what is promised of every bettering, of this code; is_left(code) tells whether anything is left to do.
+
+    Gives back the better code.
+    """
+    kept = copy.deepcopy(code)
+    found = better(code)
+    case.assertEqual(kinds_of(code), kinds_of(kept))
+    case.assertIs(type(found), list)
+    case.assertIsNone(why(found), code)
+    case.assertLessEqual(len(found), len(code))
+    case.assertIs(is_better(code), not is_left(code), code)
+    case.assertIs(is_better(found), True, (code, found))
+    case.assertFalse(is_left(found), (code, found))
+    case.assertEqual(kinds_of(better(found)), kinds_of(found))
+    if not is_left(code):
+        case.assertEqual(kinds_of(found), kinds_of(code))
+    for seed in range(4):
+        assert_tells_alike(case, code, found, names_by_chance(seed))
+    told = list(found)
+    found.append("spoilt")
+    found[0] = "spoilt"
+    case.assertEqual(kinds_of(better(code)), kinds_of(told))
+    case.assertEqual(kinds_of(code), kinds_of(kept))
+    return told
+
+
+def is_subsequence(rows, others):
+    """Whether the rows stand in the others, in their order."""
+    rest = iter(others)
+    return all(any(kinds_of(row) == kinds_of(other) for other in rest) for row in rows)
