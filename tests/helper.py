@@ -66,6 +66,13 @@ NO_CODES = (
     [("push", 1, 1), ("jump", 0, 1)], [("drop", None, True)], [["push", 1, 1], ["return", None, 1]],
 )
 
+# What is no rising tuple of names.
+BAD_GIVEN = (
+    None, True, 0, "", "a", "ab", [], ["a"], ["a", "b"], {}, {"a": 1}, ("a", "a"), ("b", "a"), ("a", "b", "b"), ("a", "c", "b"),
+    ("",), ("A",), ("abcde",), ("a1",), (1,), (None,), (True,), ("a", None), ("a", 1), (("a",),), (["a"],), ("a", "B"), ("\u00e9",),
+    ("ab", "a"), ("a", ""), ({},), ("a ",),
+)
+
 
 def assert_refuses_codes(case, ask, refuses_unsound=True):
     """Check that ask(code) refuses what is no code, then, ahead of all else, what is not sound."""
@@ -246,6 +253,24 @@ class Maker:
 def made_code(seed, most=60):
     """A sound code made by chance."""
     return Maker(seed, most).made()
+
+
+def loading_code(seed, most=60):
+    """A sound code made by chance, with more loads."""
+    chance = random.Random(seed)
+    return [("load", *row[1:]) if row[0] == "quick" and chance.random() < 0.7 else row for row in made_code(seed, most)]
+
+
+def with_other_marks(code, seed):
+    """The code with other marks in the place of its marks."""
+    marks = list(range(100))
+    random.Random(seed).shuffle(marks)
+    return [(op, marks[arg] if op in JUMP_OPS + ("label",) else arg, line) for op, arg, line in code]
+
+
+def parts_of(units):
+    """The parts of which the units can be made anew."""
+    return (units.consts(), units.names(), units.units(), units.table(), units.lines())
 
 
 def spoilt_code(seed, most=30):

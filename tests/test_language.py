@@ -161,6 +161,8 @@ class LanguageTest(unittest.TestCase):
             self.assertIsNone(node.args.kwarg, f"L4 {where}")
             self.assertEqual(node.args.posonlyargs, [], f"L4 {where}")
             self.assertLessEqual(node.end_lineno - node.lineno + 1, 40, f"L10 {where}")
+            for default in node.args.defaults + [part for part in node.args.kw_defaults if part is not None]:
+                self.assertIsInstance(default, (ast.Constant, ast.Tuple), f"L4 {where}")
 
     def test_classes(self):
         for where, node in self.nodes(ast.ClassDef):
@@ -227,6 +229,10 @@ class LanguageTest(unittest.TestCase):
                 self.assertIsInstance(node.body[-1], ast.Return, f"L28 {where}")
                 for part in returns:
                     self.assertEqual(called(part.value), "len", f"L28 {where}")
+            if node.name == "__eq__":
+                stored = [part for part in ast.walk(node) if isinstance(part, (ast.Assign, ast.AugAssign, ast.AnnAssign, ast.Delete))]
+                self.assertEqual(stored, [], f"L28 {where}")
+                self.assertFalse(any(called_method(part) in CHANGING for part in ast.walk(node)), f"L28 {where}")
 
     def test_walked_at_once(self):
         for where, node, above in self.nodes_below():
