@@ -2,7 +2,7 @@
 
 from codemill.codes import is_name, label_places
 from codemill.errors import BadNames
-from codemill.sound import FAULTING, moves, states, uppermost
+from codemill.sound import moves, states, uppermost
 
 
 def is_given(thing):
@@ -30,13 +30,12 @@ def set_behind(row, names):
 
 def ways_on(code, labels, place, state, names):
     """The pairs of a place that comes next and of the names that are set there, coming this way."""
-    row = code[place]
-    found = []
-    for goal, depth, more in moves(code, labels, place, state[0], uppermost(state[1])):
-        # Of what takes a guard away all but endtry is a fault, and a row that faulted has set or cleared nothing.
-        faulted = more == -1 and row[0] in FAULTING
-        found.append((goal, names if faulted else set_behind(row, names)))
-    return found
+    behind = set_behind(code[place], names)
+    # Where a guard goes, the row is an endtry or has faulted, and neither sets or clears a name.
+    return [
+        (goal, names if more == -1 else behind)
+        for goal, depth, more in moves(code, labels, place, state[0], uppermost(state[1]))
+    ]
 
 
 def names_set(code, found, given):

@@ -261,6 +261,27 @@ def loading_code(seed, most=60):
     return [("load", *row[1:]) if row[0] == "quick" and chance.random() < 0.7 else row for row in made_code(seed, most)]
 
 
+def straight_code(seed, most=40):
+    """A sound code made by chance without label, try and endtry, in which much can be bettered."""
+    maker = Maker(seed, most)
+    chance = maker.chance
+    for count in range(chance.randint(0, most)):
+        kind = chance.random()
+        if kind < 0.25:
+            maker.put(chance.choice(("load", "quick")), maker.name())
+            maker.depth += 1
+        elif kind < 0.3 and maker.depth > 1:
+            for swap in range(chance.randint(2, 5)):
+                maker.put("swap", chance.randint(2, min(9, maker.depth)))
+        else:
+            maker.plain(0)
+    if not maker.depth:
+        maker.push()
+    maker.put(chance.choice(("return", "return", "raise")))
+    maker.junk()
+    return [row for row in maker.rows if row[0] != "endtry"]
+
+
 def with_other_marks(code, seed):
     """The code with other marks in the place of its marks."""
     marks = list(range(100))
